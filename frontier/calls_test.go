@@ -1,6 +1,7 @@
 package frontier_test
 
 import (
+	"slices"
 	"testing"
 
 	"frontier/api"
@@ -102,30 +103,21 @@ func TestCyclesAreTheCallers(t *testing.T) {
 	_, first := frontier.Check(g)
 	kept := append([]int(nil), first...)
 	_, second := frontier.Check(g)
-	overwriteInts(second)
-	if !sameInts(first, kept) {
+	overwrite(second, -77)
+	if !slices.Equal(first, kept) {
 		t.Errorf("P2: a cycle became %v, was %v, when another was written over", first, kept)
 	}
-	overwriteInts(first)
+	overwrite(first, -77)
 	_, third := frontier.Check(g)
-	if !sameInts(third, kept) {
+	if !slices.Equal(third, kept) {
 		t.Errorf("P2: Check tells %v, behind a cycle that was written over, ahead of it %v", third, kept)
 	}
 	// What was handed in may be changed too, and the cycle stays.
 	g.Nodes[1], g.Nodes[2] = src(), src()
-	if !sameInts(third, kept) {
+	if !slices.Equal(third, kept) {
 		t.Errorf("P2: a cycle became %v, was %v, when the graph was changed", third, kept)
 	}
 	mustCheck(t, g, api.OK)
-}
-
-// overwriteInts writes over a list, its spare room and what is appended.
-func overwriteInts(list []int) {
-	list = list[:cap(list)]
-	for i := range list {
-		list[i] = -77
-	}
-	_ = append(list, -77)
 }
 
 func TestRecordsAreTheCallers(t *testing.T) {
@@ -134,29 +126,21 @@ func TestRecordsAreTheCallers(t *testing.T) {
 	want := wantedMeaning(g, given)
 	first, _ := frontier.Meaning(g, given)
 	second, _ := frontier.Meaning(g, given)
-	overwriteRecords(second)
-	if !sameRecords(first, want) {
+	overwrite(second, api.Record{Node: -77, Worker: -77, Epoch: -77, Round: -77, Value: -77})
+	if !slices.Equal(first, want) {
 		t.Errorf("P2: records became %+v, were %+v, when others were written over", first, want)
 	}
-	overwriteRecords(first)
+	overwrite(first, api.Record{Node: -77, Worker: -77, Epoch: -77, Round: -77, Value: -77})
 	third, _ := frontier.Meaning(g, given)
-	if !sameRecords(third, want) {
+	if !slices.Equal(third, want) {
 		t.Errorf("P2: Meaning tells %+v, behind records that were written over, ahead of it %+v", third, want)
 	}
 	given[0].Value, given[1].Epoch = 100, 4
 	g.Nodes[5] = add(0, 1)
-	if !sameRecords(third, want) {
+	if !slices.Equal(third, want) {
 		t.Errorf("P2: records became %+v, were %+v, when what was handed in was changed", third, want)
 	}
 	mustMean(t, g, given, wantedMeaning(g, given)...)
-}
-
-func overwriteRecords(list []api.Record) {
-	list = list[:cap(list)]
-	for i := range list {
-		list[i] = api.Record{Node: -77, Worker: -77, Epoch: -77, Round: -77, Value: -77}
-	}
-	_ = append(list, api.Record{Node: -77})
 }
 
 // TestCallsDoNotHangTogether makes each call ahead of and behind others, errors among them.

@@ -1,6 +1,7 @@
 package frontier_test
 
 import (
+	"slices"
 	"testing"
 
 	"frontier/api"
@@ -25,7 +26,7 @@ func mustCheck(t *testing.T, g api.Graph, want api.Errno) {
 		t.Errorf("P3: Check(%+v) tells %v, which is no such cycle", g, cycle)
 	}
 	_, again := frontier.Check(copyOf(g))
-	if !sameInts(cycle, again) {
+	if !slices.Equal(cycle, again) {
 		t.Errorf("P3: Check(%+v) tells %v, then %v", g, cycle, again)
 	}
 }

@@ -1,6 +1,7 @@
 package frontier_test
 
 import (
+	"slices"
 	"sort"
 
 	"frontier/api"
@@ -311,38 +312,15 @@ func wantedMeaning(g api.Graph, given []api.Given) []api.Record {
 	return all
 }
 
-func sameInts(a, b []int) bool {
-	if len(a) != len(b) {
-		return false
-	}
-	for i := range a {
-		if a[i] != b[i] {
-			return false
-		}
-	}
-	return true
-}
-
-func sameRecords(a, b []api.Record) bool {
-	if len(a) != len(b) {
-		return false
-	}
-	for i := range a {
-		if a[i] != b[i] {
-			return false
-		}
-	}
-	return true
-}
-
 func sameGraph(a, b api.Graph) bool {
-	if len(a.Nodes) != len(b.Nodes) || a.Rounds != b.Rounds {
-		return false
+	return a.Rounds == b.Rounds && slices.Equal(a.Nodes, b.Nodes)
+}
+
+// overwrite writes over a list, its spare room and what is appended.
+func overwrite[T any](list []T, mark T) {
+	list = list[:cap(list)]
+	for i := range list {
+		list[i] = mark
 	}
-	for i := range a.Nodes {
-		if a.Nodes[i] != b.Nodes[i] {
-			return false
-		}
-	}
-	return true
+	_ = append(list, mark)
 }

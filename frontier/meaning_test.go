@@ -1,6 +1,7 @@
 package frontier_test
 
 import (
+	"slices"
 	"testing"
 
 	"frontier/api"
@@ -10,7 +11,7 @@ import (
 func mustMean(t *testing.T, g api.Graph, given []api.Given, want ...api.Record) {
 	t.Helper()
 	list, errno := frontier.Meaning(g, given)
-	if errno != api.OK || !sameRecords(list, want) {
+	if errno != api.OK || !slices.Equal(list, want) {
 		t.Errorf("P5: Meaning(%+v, %+v) = %+v, %d, want %+v", g, given, list, errno, want)
 	}
 }

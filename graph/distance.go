@@ -2,6 +2,11 @@ package graph
 
 import "frontier/api"
 
+// Distances is the distances between all nodes of a graph.
+type Distances struct {
+	from [][]int
+}
+
 // Distance tells the least number of Backs between the nodes n and x on a way
 // from n to x, NoWay if there is no way (P4).
 func Distance(g api.Graph, n int, x int) (int, api.Errno) {
@@ -12,12 +17,39 @@ func Distance(g api.Graph, n int, x int) (int, api.Errno) {
 	if !IsNode(g, n) || !IsNode(g, x) {
 		return 0, api.ErrArg
 	}
+	from := distancesFrom(g, n)
+	return from[x], api.OK
+}
+
+// DistancesOf answers the distances between all nodes of g.
+func DistancesOf(g api.Graph) Distances {
+	var all Distances
+	for n := range g.Nodes {
+		from := distancesFrom(g, n)
+		all.from = append(all.from, from)
+	}
+	return all
+}
+
+// Between answers the distance from n to x, NoWay where one of them is no node.
+func (d Distances) Between(n int, x int) int {
+	if n < 0 || n >= len(d.from) {
+		return api.NoWay
+	}
+	if x < 0 || x >= len(d.from[n]) {
+		return api.NoWay
+	}
+	return d.from[n][x]
+}
+
+// distancesFrom answers, by node, the distance from n.
+func distancesFrom(g api.Graph, n int) []int {
 	from := oneStep(g, n)
 	// A way with the fewest Backs need not meet a node twice, so no more steps are wanted.
 	for step := 1; step < len(g.Nodes); step++ {
 		from = oneStepMore(g, from)
 	}
-	return from[x], api.OK
+	return from
 }
 
 // oneStep answers, by node, the distance from n over ways of one step.
