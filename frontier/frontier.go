@@ -52,10 +52,10 @@ func (r *Run) View(w int) ([]api.Point, api.Errno) { return r.run.View(w) }
 func (r *Run) Frontier(w int, n int) ([]api.Time, api.Errno) { return r.run.Frontier(w, n) }
 
 // Actions tells how many actions there are (P10).
-func (r *Run) Actions() int { return 0 }
+func (r *Run) Actions() int { return r.run.Actions() }
 
 // Do does one of them (P11).
-func (r *Run) Do(k int) (api.Event, api.Errno) { return api.Event{}, api.OK }
+func (r *Run) Do(k int) (api.Event, api.Errno) { return r.run.Do(k) }
 
 // Out tells what came to the sinks so far (P12).
-func (r *Run) Out() []api.Record { return nil }
+func (r *Run) Out() []api.Record { return r.run.Out() }

@@ -58,6 +58,7 @@ func mustAnswerAs(t *testing.T, r *frontier.Run, m *model, w, n, v int) {
 	if v == 9 {
 		mustAnswer(t, r.Close(w, n), m.close(w, n))
 	}
+	mustDoAs(t, r, m, v)
 	isWorker := w >= 0 && w < m.workers
 	isNode := n >= 0 && n < len(m.g.Nodes)
 	waiting, errno := r.Waiting(w, n)
@@ -74,19 +75,29 @@ func mustAnswerAs(t *testing.T, r *frontier.Run, m *model, w, n, v int) {
 	}
 }
 
+// mustDoAs does the action with the same number, if there is one, in the run and in the model.
+func mustDoAs(t *testing.T, r *frontier.Run, m *model, k int) api.Event {
+	t.Helper()
+	b := twin{t: t, r: r, m: m}
+	return b.do(k)
+}
+
 // TestListsOfRunsAreTheCallers writes over each list that came out, between calls.
 func TestListsOfRunsAreTheCallers(t *testing.T) {
-	g := graphOf(3, src(), back(0), src(), merge(1, 2), once(3), sum(2, 2), sink(5))
+	g := graphOf(3, src(), back(0), src(), merge(1, 2), once(3), sum(2, 2), sink(5), sink(4))
 	r := mustBegin(t, g, 2)
 	m := modelOf(g, 2)
-	for i := 0; i < api.MaxGiven; i++ {
+	d := &dice{state: 9}
+	for i := 0; i < api.MaxGiven || r.Actions() > 0; i++ {
 		w, n := i%2, i/3%2*2
 		mustAnswer(t, r.Give(w, n, i-9), m.give(w, n, i-9))
 		if i%5 == 4 {
 			mustAnswer(t, r.Advance(w, n), m.advance(w, n))
 		}
+		mustDoAs(t, r, m, d.below(r.Actions()+1))
 		kept := look(r, 2, len(g.Nodes))
 		again := look(r, 2, len(g.Nodes))
+		overwrite(again.out, record(-77, -77, -77, -77, -77))
 		for j := range again.views {
 			overwrite(again.views[j], in(-77, -77, -77, -77))
 		}
@@ -99,6 +110,9 @@ func TestListsOfRunsAreTheCallers(t *testing.T) {
 		}
 		mustBeAs(t, r, m)
 	}
+	if len(r.Out()) < 5 {
+		t.Errorf("only %d records came out", len(r.Out()))
+	}
 }
 
 // TestListsOfRunsStay looks at lists that came out, behind calls that change the run.
@@ -110,9 +124,16 @@ func TestListsOfRunsStay(t *testing.T) {
 	times, _ := r.Frontier(0, 1)
 	room := waiting[:cap(waiting)]
 	roomBefore := append([]api.Message(nil), room...)
+	// What is worked at makes room in the run, not in the list.
+	mustDo(t, r, 1, work(0, 1, 1, 0, 0, 2))
+	mustDo(t, r, 0, work(0, 1, 0, 0, 0, 1))
 	mustGive(t, r, 0, 0, 4, 5)
 	mustAdvance(t, r, 0, 0)
 	mustClose(t, r, 0, 0)
+	mustWait(t, r, 0, 1, messages(0, 3, 4, 5)...)
+	for r.Actions() > 0 {
+		r.Do(0)
+	}
 	if !slices.Equal(waiting, messages(0, 1, 2, 3)) || !slices.Equal(room, roomBefore) {
 		t.Errorf("P2: what waited became %+v with the room %+v", waiting, room)
 	}
@@ -137,6 +158,12 @@ func TestLookingChangesNothing(t *testing.T) {
 			mustAdvance(t, looked, i%3, 0)
 			mustAdvance(t, other, i%3, 0)
 		}
+		for j := 0; j < 7; j++ {
+			k := (i*7 + j*5) % looked.Actions()
+			event, _ := looked.Do(k)
+			mustDo(t, other, k, event)
+			look(looked, 4, 9)
+		}
 	}
 	seen := look(looked, 3, len(g.Nodes))
 	if !seen.same(look(other, 3, len(g.Nodes))) {
@@ -159,6 +186,8 @@ func TestRunsHaveNothingInCommon(t *testing.T) {
 	for calls := 0; calls < 400; calls++ {
 		i := d.below(len(runs))
 		w, n, v := d.below(models[i].workers), d.below(2)*5, d.below(20)-10
+		mustDoAs(t, runs[i], models[i], d.below(12))
+		mustDoAs(t, runs[i], models[i], d.below(4))
 		switch d.below(12) {
 		case 0:
 			mustAnswer(t, runs[i].Close(w, n), models[i].close(w, n))

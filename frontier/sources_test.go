@@ -13,10 +13,12 @@ type seen struct {
 	views    [][]api.Point
 	waiting  [][]api.Message
 	frontier [][]api.Time
+	actions  int
+	out      []api.Record
 }
 
 func look(r *frontier.Run, workers, nodes int) seen {
-	var all seen
+	all := seen{actions: r.Actions(), out: r.Out()}
 	for w := 0; w < workers; w++ {
 		view, _ := r.View(w)
 		all.views = append(all.views, view)
@@ -31,7 +33,7 @@ func look(r *frontier.Run, workers, nodes int) seen {
 }
 
 func (s seen) same(other seen) bool {
-	same := len(s.views) == len(other.views) && len(s.waiting) == len(other.waiting)
+	same := len(s.views) == len(other.views) && len(s.waiting) == len(other.waiting) && s.actions == other.actions && slices.Equal(s.out, other.out)
 	for i := 0; same && i < len(s.views); i++ {
 		same = slices.Equal(s.views[i], other.views[i])
 	}

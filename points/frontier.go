@@ -61,3 +61,13 @@ func least(can coming) []api.Time {
 	}
 	return all
 }
+
+// HasUpTo tells whether one of the times is up to this one.
+func HasUpTo(list []api.Time, time api.Time) bool {
+	for _, other := range list {
+		if other.Epoch <= time.Epoch && other.Round <= time.Round {
+			return true
+		}
+	}
+	return false
+}

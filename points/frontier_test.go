@@ -146,3 +146,18 @@ func canCome(g api.Graph, far graph.Distances, p api.Point, x, round int) bool {
 	}
 	return distance >= 0 && p.Round+distance == round
 }
+
+func TestHasUpTo(t *testing.T) {
+	frontier := []api.Time{when(0, 3), when(1, 1), when(4, 0)}
+	for epoch := 0; epoch <= 5; epoch++ {
+		for round := 0; round < 4; round++ {
+			want := round == 3 || epoch >= 1 && round >= 1 || epoch >= 4
+			if HasUpTo(frontier, when(epoch, round)) != want {
+				t.Errorf("P10: HasUpTo(%+v, (%d, %d)) is not %v", frontier, epoch, round, want)
+			}
+		}
+	}
+	if HasUpTo(nil, when(5, 3)) {
+		t.Errorf("P10: of no times one is up to (5, 3)")
+	}
+}

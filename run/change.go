@@ -24,7 +24,7 @@ func (r *Run) putOut(w int, n int, time api.Time, v int) []api.Point {
 	var more []api.Point
 	for x, node := range r.graph.Nodes {
 		if graph.Takes(node, n) {
-			at := r.worksAt(w, node, v)
+			at := r.waitsOn(w, node, v)
 			to := &r.workers[at]
 			to.waiting[x] = append(to.waiting[x], message)
 			more = append(more, in(x, time, 1))
@@ -33,9 +33,9 @@ func (r *Run) putOut(w int, n int, time api.Time, v int) []api.Point {
 	return more
 }
 
-// worksAt answers the worker on which a value waits that the worker w puts out
+// waitsOn answers the worker on which a value waits that the worker w puts out
 // to a node: equal values meet at a Once, and values of one group at a Sum.
-func (r *Run) worksAt(w int, node api.Node, v int) int {
+func (r *Run) waitsOn(w int, node api.Node, v int) int {
 	switch node.Kind {
 	case api.Once:
 		return values.Rest(v, len(r.workers))

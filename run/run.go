@@ -13,13 +13,17 @@ type Run struct {
 	distances graph.Distances
 	workers   []worker
 	given     int
+	records   []api.Record
 }
 
-// worker is what one worker has: its Sources and what waits, by node; what it
-// believes; by worker, the changes of others that are on their way to it.
+// worker is what one worker has: by node, its Sources, what waits, what its
+// Onces let by, and what its Sums added up; what it believes; by worker, the
+// changes of others that are on their way to it.
 type worker struct {
 	sources  [api.MaxNodes]source
 	waiting  [api.MaxNodes][]api.Message
+	letBy    [api.MaxNodes][]api.Message
+	tallies  [api.MaxNodes]tally
 	believed points.Believed
 	onTheWay [api.MaxWorkers][]points.Change
 }
@@ -88,6 +92,13 @@ func (r *Run) Frontier(w int, n int) ([]api.Time, api.Errno) {
 	}
 	list := r.workers[w].believed.Points()
 	return points.Frontier(r.graph, r.distances, list, n), api.OK
+}
+
+// Out answers what came to the Sinks, in the order in which it came (P12).
+func (r *Run) Out() []api.Record {
+	var all []api.Record
+	all = append(all, r.records...)
+	return all
 }
 
 func (r *Run) isWorker(w int) bool {

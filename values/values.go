@@ -72,24 +72,38 @@ func Distinct(list []int) []int {
 	return all
 }
 
-// GroupSums answers the sum of each group that has a value, in order of the
-// groups; the group of a value is its rest by k.
-func GroupSums(list []int, k int) []int {
-	var sums [api.MaxGroups]int
-	var met [api.MaxGroups]bool
-	for _, v := range list {
-		group := Rest(v, k)
-		if group < api.MaxGroups {
-			sums[group] += v
-			met[group] = true
-		}
+// Groups is the sums of values in groups; the group of a value is its rest by k.
+type Groups struct {
+	sums [api.MaxGroups]int
+	met  [api.MaxGroups]bool
+}
+
+// Add adds a value up in its group.
+func (g *Groups) Add(v int, k int) {
+	group := Rest(v, k)
+	if group < api.MaxGroups {
+		g.sums[group] += v
+		g.met[group] = true
 	}
+}
+
+// Sums answers the sum of each group that has a value, in order of the groups.
+func (g *Groups) Sums() []int {
 	var all []int
 	for group := 0; group < api.MaxGroups; group++ {
 		// A group whose values add up to 0 has a sum, an empty one has none.
-		if met[group] {
-			all = append(all, sums[group])
+		if g.met[group] {
+			all = append(all, g.sums[group])
 		}
 	}
 	return all
+}
+
+// GroupSums answers the sums of the groups of a list of values.
+func GroupSums(list []int, k int) []int {
+	var groups Groups
+	for _, v := range list {
+		groups.Add(v, k)
+	}
+	return groups.Sums()
 }

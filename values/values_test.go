@@ -73,7 +73,7 @@ func TestGroupSums(t *testing.T) {
 	}{
 		{nil, 3, nil}, {[]int{0}, 3, []int{0}}, {[]int{3, -3}, 3, []int{0}}, {[]int{5, 4, -1, 2}, 3, []int{4, 6}}, {[]int{15, 7, 8}, 8, []int{8, 22}}, {[]int{greatest, 1}, 1, []int{least}},
 		// No Sum has so many groups; the call ends all the same.
-		{[]int{1, 99}, 100, []int{1}},
+		{[]int{1, 8, 7, 99}, 100, []int{1, 7}},
 	} {
 		if sums := GroupSums(c.list, c.k); !slices.Equal(sums, c.want) {
 			t.Errorf("P5: GroupSums(%v, %d) = %v, want %v", c.list, c.k, sums, c.want)
